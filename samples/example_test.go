@@ -15,8 +15,8 @@ func Example() {
 	fmt.Println(list, int(e))
 	fmt.Println(samples.Wide(2, 2))
 	s := api.Shape{Head: api.Head{W: 1, H: 1, Depth: 8, Colour: api.Grey}}
-	pixel, e := samples.Pixel(s, 128)
-	fmt.Printf("% X %d\n", pixel, e)
+	one, e := samples.Pixel(s, 128)
+	fmt.Printf("% X %d\n", one, e)
 	// Output:
 	// 6C 0
 	// [1 2 3] 0
